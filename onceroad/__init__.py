@@ -1,0 +1,1 @@
+"""Onceroad: games on a web in which no place, or no tie, is gone twice."""
