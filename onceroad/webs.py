@@ -30,6 +30,9 @@ class Web:
     def has_place(self, thing):
         return is_place(self.numbers, thing)
 
+    def has_tie(self, thing):
+        return are_two_places(self.numbers, thing) and self.tied(thing[0], thing[1])
+
     def number_of(self, place):
         if not self.has_place(place):
             raise NoPlace(place)

@@ -5,6 +5,7 @@ import unittest
 from itertools import combinations
 
 from onceroad import errors
+from onceroad.plays import Play
 from onceroad.webs import Web
 
 FIELDS = {
@@ -22,11 +23,16 @@ def things():
         0, 1, -1, 7, 10 ** 39, -(10 ** 39), True, False, None,
         "", " ", "A", "Ab", "a ", " a", "a\n", "a1", "a-b", "zzzzzzz", "~", ">", "a > b", "x" * 2000, "\n" * 9,
         len, lambda: None, things, Web([], []), Web(["a", "b"], [("a", "b")]),
-        errors.NoBack(), errors.NoPlace("a"), errors.OnceError("a"),
+        Play(Web(["a"], []), "a"), errors.NoBack(), errors.NoPlace("a"), errors.OnceError("a"),
         [], (), {}, [[]], [()], ([],), [{}], ["a", ["b"]], [["a", "b"]], ("a", ["b"]), ["q", "r"], ("q", "r"),
         [("a",)], [("a", "b", "c")], [("q", "r")], [("a", 1)], [(True, "b")], [(["a"], "b")], [({}, {})], [None],
         {"a": "b"}, {1: 2}, {("a", "b"): [1]}, [1, "a", (2, [3, (4, [5])])], [0] * 1999, [("q", "r")] * 600,
     ]
+
+
+def other_things(kinds):
+    """Those of these things that are of none of these kinds."""
+    return [thing for thing in things() if not isinstance(thing, kinds)]
 
 
 def line_web(names):

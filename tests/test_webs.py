@@ -2,15 +2,11 @@
 
 import unittest
 
-from helper import FOURTEEN, Case, full_ties, line_web, ring_web, things
+from helper import FOURTEEN, Case, full_ties, line_web, other_things, ring_web, things
 from onceroad.errors import NoName, NoPlace, NoTie, TooMany, Twice
 from onceroad.webs import Web
 
 FIFTEEN = FOURTEEN + ["o"]
-
-
-def other_things(kinds):
-    return [thing for thing in things() if not isinstance(thing, kinds)]
 
 
 class Made(Case):

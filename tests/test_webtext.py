@@ -2,7 +2,7 @@
 
 import unittest
 
-from helper import FOURTEEN, Case, all_webs, full_ties, line_web, ring_web, things
+from helper import FOURTEEN, Case, all_webs, full_ties, line_web, other_things, ring_web, things
 from onceroad.errors import NoText
 from onceroad.webs import Web
 from onceroad.webtext import read_web, show_web
@@ -41,9 +41,8 @@ class Read(Case):
             self.assertEqual(read_web(show_web(web)).told(), web.told())
 
     def test_what_is_no_text(self):
-        for thing in things():
-            if not isinstance(thing, str):
-                self.refuses_at(0, thing)
+        for thing in other_things(str):
+            self.refuses_at(0, thing)
 
     def test_texts_of_any_kind(self):
         for thing in things():
