@@ -1,4 +1,8 @@
-"""The package keeps to its small part of Python: the rules L1 to L28 that can be seen in the tree of a file."""
+"""The package keeps to its small part of Python.
+
+Looked at, some only in part: L1 to L8, L10, L12, L14 to L18, L20, L25, L27. Not looked at, so to be kept by eye:
+L9, L11, L13, most of L19, L21 to L24, L26, L28.
+"""
 
 import ast
 import builtins
