@@ -6,17 +6,19 @@ from onceroad.pairs import partners_in
 
 def is_row(web, pairs, thing):
     partners = partners_in(web, pairs)
-    if not isinstance(thing, list) or len(thing) < 2:
+    if not are_unlike_places(web, thing) or len(thing) < 2:
         return False
-    return are_unlike_places(web, thing) and goes_by_turns(web, partners, thing)
+    return goes_by_turns(web, partners, thing)
 
 
-def are_unlike_places(web, things):
+def are_unlike_places(web, thing):
+    if not isinstance(thing, list):
+        return False
     seen = {}
-    for thing in things:
-        if not web.has_place(thing) or thing in seen:
+    for place in thing:
+        if not web.has_place(place) or place in seen:
             return False
-        seen[thing] = True
+        seen[place] = True
     return True
 
 

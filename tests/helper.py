@@ -5,6 +5,7 @@ import unittest
 from itertools import combinations
 
 from onceroad import errors
+from onceroad.forests import Forest
 from onceroad.plays import Play
 from onceroad.webs import Web
 
@@ -23,7 +24,7 @@ def things():
         0, 1, -1, 7, 10 ** 39, -(10 ** 39), True, False, None,
         "", " ", "A", "Ab", "a ", " a", "a\n", "a1", "a-b", "zzzzzzz", "~", ">", "a > b", "x" * 2000, "\n" * 9,
         len, lambda: None, things, Web([], []), Web(["a", "b"], [("a", "b")]),
-        Play(Web(["a"], []), "a"), errors.NoBack(), errors.NoPlace("a"), errors.OnceError("a"),
+        Play(Web(["a"], []), "a"), Forest(Web(["a"], []), []), errors.NoBack(), errors.NoPlace("a"), errors.OnceError("a"),
         [], (), {}, [[]], [()], ([],), [{}], ["a", ["b"]], [["a", "b"]], ("a", ["b"]), ["q", "r"], ("q", "r"),
         [("a",)], [("a", "b", "c")], [("q", "r")], [("a", 1)], [(True, "b")], [(["a"], "b")], [({}, {})], [None],
         {"a": "b"}, {1: 2}, {("a", "b"): [1]}, [1, "a", (2, [3, (4, [5])])], [0] * 1999, [("q", "r")] * 600,
@@ -61,6 +62,70 @@ def all_pairs(web):
     for tie in web.ties():
         found += [pairs + [tie] for pairs in found if not any(set(tie) & set(pair) for pair in pairs)]
     return found
+
+
+def most_pairs(web):
+    """How many greatest pairs are, by trying each partner of one place after another."""
+    return most_among([web.bits_beside(place) for place in web.places()], (1 << web.how_many()) - 1, {})
+
+
+def most_among(near, left, known):
+    if not left:
+        return 0
+    if left not in known:
+        low = left & -left
+        rest = left ^ low
+        partners = near[low.bit_length() - 1] & rest
+        most = most_among(near, rest, known)
+        while partners:
+            partner = partners & -partners
+            most = max(most, 1 + most_among(near, rest ^ partner, known))
+            partners ^= partner
+        known[left] = most
+    return known[left]
+
+
+def greatest_by_trying(web):
+    """All greatest pairs of a web."""
+    found = all_pairs(web)
+    most = max(len(pairs) for pairs in found)
+    return [pairs for pairs in found if len(pairs) == most]
+
+
+def loose_by_counting(web):
+    """The places without which there are as many pairs, in order."""
+    most = most_pairs(web)
+    return [place for place in web.places() if most_pairs(web.without([place])) == most]
+
+
+def mixed(things, turn):
+    """These things in another order, which hangs on the turn alone."""
+    state, rest, found = turn, list(things), []
+    while rest:
+        state = (state * 1103515245 + 12345) % 2147483648
+        found.append(rest.pop((state >> 8) % len(rest)))
+    return found
+
+
+def mixed_webs(many, places, ties):
+    """So many webs of so many places and ties, the places in mixed order."""
+    names = FOURTEEN[:places]
+    return [Web(mixed(names, turn), mixed(combinations(names, 2), turn + 1000)[:ties]) for turn in range(many)]
+
+
+def told_webs():
+    """Webs at the edges, some with rings within rings, and some of fourteen places."""
+    flower = Web(list("abcdefg"), list(zip("abcdcdfg", "bcdeefga")))
+    spokes = [("abcde"[at], "fghij"[at]) for at in range(5)]
+    star = Web(list("abcdefghij"), list(zip("abcde", "bcdea")) + spokes + list(zip("fghij", "hijfg")))
+    webs = [Web([], []), Web(["a"], []), Web(list("cab"), []), line_web("ab"), line_web("abc"), ring_web("abc")]
+    webs += [ring_web("bdace"), flower, star, line_web(FOURTEEN), ring_web(FOURTEEN), ring_web(FOURTEEN[:13])]
+    # Three rings of three at one place each of a place in the midst, which is tied to all three.
+    rings = [tie for one in ("abc", "def", "ghi") for tie in zip(one, one[1:] + one[0])]
+    webs.append(Web(list("mabcdefghi"), rings + [("m", "a"), ("d", "m"), ("m", "g")]))
+    webs.append(Web(FOURTEEN, full_ties(FOURTEEN, 30)))
+    webs.append(Web(FOURTEEN, full_ties("abcdefgh", 28) + [("i", "j"), ("k", "l")]))
+    return webs + mixed_webs(3, 14, 30) + mixed_webs(3, 14, 18) + mixed_webs(3, 13, 14)
 
 
 class Case(unittest.TestCase):

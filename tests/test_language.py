@@ -1,7 +1,7 @@
 """The package keeps to its small part of Python.
 
-Looked at, some only in part: L1 to L8, L10, L12, L14 to L18, L20, L25, L27. Not looked at, so to be kept by eye:
-L9, L11, L13, most of L19, L21 to L24, L26, L28.
+Looked at, some only in part: L1 to L8, L10, L12, L14 to L28. Not looked at, so to be kept by eye: L9, L11, L13, of L15
+what is kept at a file's top, of L19 what stands in a `try`, of L23 that nothing walked is changed.
 """
 
 import ast
@@ -29,6 +29,12 @@ WORDS = """type typing typing_extensions enum Enum IntEnum StrEnum Flag IntFlag 
     namedtuple NamedTuple TypedDict TYPE_CHECKING abstractmethod""".split()
 PARTS = ["dataclass", "overload", "contextmanager"]
 UNDERSCORED = ["__init__", "__eq__", "__repr__", "__str__", "__len__"]
+OTHER_METHODS = ["add", "discard"]
+VALUES = "count index title find get join lower upper split strip copy add".split()
+KEYWORDS = {"sorted": ["key", "reverse"], "min": ["key", "default"], "max": ["key", "default"], "sum": ["start"],
+            "enumerate": ["start"], "zip": ["strict"]}
+WALKED = ["zip", "enumerate", "reversed", "range", "items", "keys", "values"]
+WALKERS = "list tuple dict sorted sum any all enumerate zip min max join".split()
 UNUSED = ["register", "mro", "elements", "open", "input", "version_info", "with_traceback", "add_note"]
 
 
@@ -55,6 +61,19 @@ def method_names():
 
 def value_names():
     return {node.attr for _, node in nodes(ast.Attribute) if isinstance(node.ctx, ast.Store)}
+
+
+def called(node):
+    """The name by which a node calls something, or None."""
+    if not isinstance(node, ast.Call):
+        return None
+    return node.func.id if isinstance(node.func, ast.Name) else getattr(node.func, "attr", None)
+
+
+def with_parents(kinds):
+    """All nodes of these kinds with their file and the node straight around each of them."""
+    return [(stem, parent, node) for stem, tree in trees().items() for parent in ast.walk(tree)
+            for node in ast.iter_child_nodes(parent) if isinstance(node, kinds)]
 
 
 class Files(unittest.TestCase):
@@ -155,6 +174,47 @@ class Forms(unittest.TestCase):
             self.assertFalse(node.finalbody, (stem, node.lineno))
 
 
+    def test_no_annotations(self):
+        for stem, node in nodes(ast.FunctionDef):
+            self.assertIsNone(node.returns, (stem, node.name))
+        for stem, node in nodes(ast.arg):
+            self.assertIsNone(node.annotation, (stem, node.lineno))
+
+    def test_errors_are_taken_by_the_programs_own_names(self):
+        for stem, node in nodes(ast.ExceptHandler):
+            self.assertIn(node.type.id, top_names(trees()["errors"]), (stem, node.lineno))
+
+    def test_keywords(self):
+        for stem, node in nodes(ast.Call):
+            for keyword in node.keywords:
+                self.assertIn(keyword.arg, KEYWORDS.get(called(node), []), (stem, node.lineno))
+
+    def test_what_is_walked_is_walked_at_once(self):
+        for stem, parent, node in with_parents(ast.Call):
+            if called(node) in WALKED:
+                walks = isinstance(parent, (ast.For, ast.comprehension)) and parent.iter is node
+                walks = walks or (called(parent) in WALKERS and node in parent.args)
+                self.assertTrue(walks, (stem, node.lineno))
+
+    def test_no_sets(self):
+        for stem, node in nodes(ast.Name):
+            self.assertNotIn(node.id, ("set", "frozenset"), (stem, node.lineno))
+
+    def test_methods_with_two_underscores(self):
+        for stem, node in nodes(ast.FunctionDef):
+            if node.name.startswith("__"):
+                self.assertEqual(node.name, "__init__", stem)
+                self.assertFalse([one for one in ast.walk(node) if isinstance(one, ast.Return)], (stem, node.lineno))
+
+    def test_classes_are_called_and_not_kept(self):
+        names = [node.name for _, node in nodes(ast.ClassDef)]
+        for stem, parent, node in with_parents(ast.Name):
+            if node.id in names:
+                plain = isinstance(parent, (ast.ClassDef, ast.ExceptHandler)) or called(parent) in (node.id, "isinstance")
+                base = isinstance(parent, ast.Attribute) and parent.attr == "__init__"
+                self.assertTrue(plain or base, (stem, node.lineno))
+
+
 class Names(unittest.TestCase):
     def test_plain_names(self):
         names = [(stem, node.id) for stem, node in nodes(ast.Name)]
@@ -180,6 +240,17 @@ class Names(unittest.TestCase):
                 name = node.arg if isinstance(node, ast.arg) else getattr(node, "id", None)
                 if isinstance(node, ast.arg) or isinstance(getattr(node, "ctx", None), ast.Store):
                     self.assertNotIn(name, taken, stem)
+
+    def test_own_methods_and_values(self):
+        taken = {name for kind in (str, int, list, dict, set, bytes, tuple) for name in dir(kind)}
+        self.assertFalse((method_names() & taken) - set(METHODS + OTHER_METHODS + UNDERSCORED))
+        self.assertFalse(value_names() & (taken | {"args"}) - set(VALUES))
+
+    def test_pythons_own_are_called_and_not_kept(self):
+        for stem, parent, node in with_parents(ast.Name):
+            if node.id in OWN_NAMES and not isinstance(parent, (ast.ClassDef, ast.Attribute, ast.keyword)):
+                stands = called(parent) in (node.id, "isinstance") or isinstance(parent, ast.Tuple)
+                self.assertTrue(stands, (stem, node.lineno))
 
     def test_methods(self):
         for stem, node in nodes(ast.Call):
