@@ -68,8 +68,8 @@ class Forest:
             self.longer = self.rows[one] + self.rows[other][::-1]
         elif ones[0] != others[0]:
             meeting = [base for base in ones if base in others][0]
-            ring = self.open_side(one, other, ones[:ones.index(meeting)])
-            ring.extend(self.open_side(other, one, others[:others.index(meeting)]))
+            ring = self.reach_round(one, other, ones[:ones.index(meeting)])
+            ring.extend(self.reach_round(other, one, others[:others.index(meeting)]))
             self.fold(ring, meeting)
 
     def bases_down_from(self, place):
@@ -80,7 +80,7 @@ class Forest:
         return bases
 
     # What lies on one side of a ring and was not reached evenly yet is so the other way round the ring.
-    def open_side(self, one, other, bases):
+    def reach_round(self, one, other, bases):
         side = []
         for base in bases:
             place = self.partners[base]

@@ -1,11 +1,12 @@
 """What several test files need: things of every kind, webs, and refusals looked at closely."""
 
-import copy
 import unittest
 from itertools import combinations
 
 from onceroad import errors
 from onceroad.forests import Forest
+from onceroad.kept import Kept
+from onceroad.players import Best, By, Nearest, Numbered
 from onceroad.plays import Play
 from onceroad.webs import Web
 
@@ -24,7 +25,8 @@ def things():
         0, 1, -1, 7, 10 ** 39, -(10 ** 39), True, False, None,
         "", " ", "A", "Ab", "a ", " a", "a\n", "a1", "a-b", "zzzzzzz", "~", ">", "a > b", "x" * 2000, "\n" * 9,
         len, lambda: None, things, Web([], []), Web(["a", "b"], [("a", "b")]),
-        Play(Web(["a"], []), "a"), Forest(Web(["a"], []), []), errors.NoBack(), errors.NoPlace("a"), errors.OnceError("a"),
+        Play(Web(["a"], []), "a"), Forest(Web(["a"], []), []), Kept(Web(["a"], [])), Nearest(), Numbered([1]), By(len),
+        Best(), [Nearest()], (Kept(Web([], [])),), errors.NoBack(), errors.NoPlace("a"), errors.OnceError("a"),
         [], (), {}, [[]], [()], ([],), [{}], ["a", ["b"]], [["a", "b"]], ("a", ["b"]), ["q", "r"], ("q", "r"),
         [("a",)], [("a", "b", "c")], [("q", "r")], [("a", 1)], [(True, "b")], [(["a"], "b")], [({}, {})], [None],
         {"a": "b"}, {1: 2}, {("a", "b"): [1]}, [1, "a", (2, [3, (4, [5])])], [0] * 1999, [("q", "r")] * 600,
@@ -34,6 +36,15 @@ def things():
 def other_things(kinds):
     """Those of these things that are of none of these kinds."""
     return [thing for thing in things() if not isinstance(thing, kinds)]
+
+
+def copied(thing):
+    """A copy of lists, tuples and dicts and of those within them; all else is taken as it is."""
+    if isinstance(thing, (list, tuple)):
+        return type(thing)(copied(one) for one in thing)
+    if isinstance(thing, dict):
+        return {key: copied(one) for key, one in thing.items()}
+    return thing
 
 
 def line_web(names):
@@ -61,6 +72,36 @@ def all_pairs(web):
     found = [[]]
     for tie in web.ties():
         found += [pairs + [tie] for pairs in found if not any(set(tie) & set(pair) for pair in pairs)]
+    return found
+
+
+def all_told(play):
+    """All that a play tells, to be compared."""
+    web = play.web().told()
+    rest = (play.hand(), play.ended(), play.loser(), play.web_left().told(), play.position())
+    return (web, play.stands_at(), play.gone(), play.left(), play.moves()) + rest
+
+
+def mover_wins(play, known):
+    """Whether the hand that is to move wins, by trying all moves; what is known by position is kept in the dict."""
+    position = play.position()
+    if position not in known:
+        wins = False
+        for move in play.moves():
+            twin = play.twin()
+            twin.go(move)
+            wins = not mover_wins(twin, known) or wins
+        known[position] = wins
+    return known[position]
+
+
+def all_plays(web, start):
+    """A play from this start and all that can come of it."""
+    found = [Play(web, start)]
+    for play in found:
+        for move in play.moves():
+            found.append(play.twin())
+            found[-1].go(move)
     return found
 
 
@@ -155,10 +196,10 @@ class Case(unittest.TestCase):
 
     def keeps(self, call, *args):
         """The call, refused or not, leaves its arguments as they are; what it tells is told."""
-        before = copy.deepcopy([arg for arg in args if isinstance(arg, (list, tuple, dict))])
+        before = copied(args)
         try:
             told = call(*args)
         except errors.OnceError:
             told = None
-        self.assertEqual([arg for arg in args if isinstance(arg, (list, tuple, dict))], before)
+        self.assertEqual(args, before)
         return told

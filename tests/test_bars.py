@@ -1,10 +1,9 @@
 """[5], [7], [50], [51], [52], [53]: bars, their lack, and papers of greatest pairs."""
 
-import copy
 import unittest
 from itertools import combinations
 
-from helper import FOURTEEN, Case, all_pairs, all_webs, full_ties, line_web, loose_by_counting, mixed, mixed_webs
+from helper import FOURTEEN, Case, all_pairs, all_webs, copied, full_ties, line_web, loose_by_counting, mixed, mixed_webs
 from helper import most_pairs, ring_web, things, told_webs
 from onceroad.bars import is_bar, lack_of, odd_pieces, paper_of, parts_of, pieces_beside, shows
 from onceroad.errors import NoBar, NoPairs
@@ -216,7 +215,7 @@ class Copies(Case):
         web = star()
         pairs, bar = [("m", "a"), ("e", "d")], ["d", "m"]
         for call in (lambda: pieces_beside(web, bar), lambda: odd_pieces(web, bar), lambda: parts_of(web, pairs, bar)):
-            before = copy.deepcopy(call())
+            before = copied(call())
             told = call()
             for part in told:
                 (part if isinstance(part, list) else part[0]).clear()
@@ -224,7 +223,7 @@ class Copies(Case):
                     part[2].clear()
             told.clear()
             self.assertEqual(call(), before)
-        paper = copy.deepcopy(paper_of(web))
+        paper = copied(paper_of(web))
         for told in paper_of(web):
             told.clear()
         self.assertEqual(paper_of(web), paper)

@@ -3,17 +3,10 @@
 import unittest
 from itertools import permutations
 
-from helper import FOURTEEN, Case, all_webs, full_ties, line_web, other_things, ring_web, things
+from helper import FOURTEEN, Case, all_told, all_webs, full_ties, line_web, other_things, ring_web, things
 from onceroad.errors import NoBack, NoMove, NoNumbers, NoPlace
 from onceroad.plays import Play, all_within, played, rows_within
 from onceroad.webs import Web
-
-
-def all_told(play):
-    """All that a play tells, to be compared."""
-    web = play.web().told()
-    rest = (play.hand(), play.ended(), play.loser(), play.web_left().told(), play.position())
-    return (web, play.stands_at(), play.gone(), play.left(), play.moves()) + rest
 
 
 def rows_by_trying(play, many):

@@ -1,10 +1,9 @@
 """[5], [33], [34]: webs of two sides, odd rings, and pairs and covers that are as many."""
 
-import copy
 import unittest
 from itertools import combinations, product
 
-from helper import FOURTEEN, Case, all_pairs, all_webs, full_ties, line_web, mixed, mixed_webs, most_pairs, ring_web
+from helper import FOURTEEN, Case, all_pairs, all_webs, copied, full_ties, line_web, mixed, mixed_webs, most_pairs, ring_web
 from helper import things, told_webs
 from onceroad.errors import Odd
 from onceroad.pairs import are_pairs, told_pairs
@@ -185,7 +184,7 @@ class Copies(Looks):
         sides_of(web)[0].clear()
         sides_of(web)[1].clear()
         self.assertEqual(sides_of(web), (["a", "c"], ["b", "d"]))
-        before = copy.deepcopy(greatest_by_sides(web))
+        before = copied(greatest_by_sides(web))
         for told in greatest_by_sides(web):
             told.clear()
         self.assertEqual(greatest_by_sides(web), before)
