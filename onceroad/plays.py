@@ -1,29 +1,14 @@
 """Plays: a token goes along ties, never to a place where it was; who can't move has lost."""
 
-from onceroad.errors import NoBack, NoMove, NoNumbers, NoPlace
+from onceroad.errors import NoNumbers, NoPlace
 from onceroad.names import is_within
+from onceroad.walks import Walk, count_from
 
 MOST_FOR_ROWS = 3
 MOST_FOR_THEIR_NUMBER = 5
 
 
-class Play:
-    def __init__(self, web, start):
-        if not web.has_place(start):
-            raise NoPlace(start)
-        # Webs never change, so the web itself is as good as a copy.
-        self.board = web
-        self.path = [start]
-
-    def web(self):
-        return self.board
-
-    def stands_at(self):
-        return self.path[-1]
-
-    def gone(self):
-        return list(self.path)
-
+class Play(Walk):
     def left(self):
         return self.not_gone(self.board.places())
 
@@ -33,30 +18,14 @@ class Play:
     def not_gone(self, names):
         return [name for name in names if name not in self.path]
 
-    def hand(self):
-        return (len(self.path) - 1) % 2
-
-    def ended(self):
-        return self.moves() == []
-
-    def loser(self):
-        return self.hand() if self.ended() else None
+    def go(self, name):
+        self.move_to(name)
 
     def web_left(self):
         return self.board.without(self.path[:-1])
 
     def position(self):
         return (self.stands_at(), self.web_left().told())
-
-    def go(self, name):
-        if name not in self.moves():
-            raise NoMove(name)
-        self.path.append(name)
-
-    def back(self):
-        if len(self.path) == 1:
-            raise NoBack()
-        return self.path.pop()
 
     def twin(self):
         return played(self.board, self.path)
@@ -91,13 +60,3 @@ def all_within(play, many):
     if not is_within(many, 0, MOST_FOR_THEIR_NUMBER):
         raise NoNumbers(many)
     return count_from(play.twin(), many)
-
-
-def count_from(play, many):
-    total = 1
-    if many > 0:
-        for move in play.moves():
-            play.go(move)
-            total += count_from(play, many - 1)
-            play.back()
-    return total

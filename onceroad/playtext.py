@@ -1,22 +1,15 @@
 """Plays written as texts, and read again."""
 
-from onceroad.errors import NoText
 from onceroad.plays import Play
+from onceroad.walktext import go_along, show_walk, words_from_start
 
 
 def show_play(play):
-    return " > ".join(play.gone())
+    return show_walk(play)
 
 
 def read_play(web, text):
-    if not isinstance(text, str):
-        raise NoText(0)
-    words = text.split(" > ")
-    if not web.has_place(words[0]):
-        raise NoText(0)
+    words = words_from_start(web, text)
     play = Play(web, words[0])
-    for at, word in enumerate(words[1:], start=1):
-        if word not in play.moves():
-            raise NoText(at)
-        play.go(word)
+    go_along(play, words)
     return play

@@ -8,6 +8,7 @@ from onceroad.forests import Forest
 from onceroad.kept import Kept
 from onceroad.players import Best, By, Nearest, Numbered
 from onceroad.plays import Play
+from onceroad.roads import Road
 from onceroad.webs import Web
 
 FIELDS = {
@@ -26,6 +27,7 @@ def things():
         "", " ", "A", "Ab", "a ", " a", "a\n", "a1", "a-b", "zzzzzzz", "~", ">", "a > b", "x" * 2000, "\n" * 9,
         len, lambda: None, things, Web([], []), Web(["a", "b"], [("a", "b")]),
         Play(Web(["a"], []), "a"), Forest(Web(["a"], []), []), Kept(Web(["a"], [])), Nearest(), Numbered([1]), By(len),
+        Road(Web(["a", "b"], [("a", "b")]), "a"), {"a": Road(Web(["a"], []), "a")},
         Best(), [Nearest()], (Kept(Web([], [])),), errors.NoBack(), errors.NoPlace("a"), errors.OnceError("a"),
         [], (), {}, [[]], [()], ([],), [{}], ["a", ["b"]], [["a", "b"]], ("a", ["b"]), ["q", "r"], ("q", "r"),
         [("a",)], [("a", "b", "c")], [("q", "r")], [("a", 1)], [(True, "b")], [(["a"], "b")], [({}, {})], [None],
@@ -80,6 +82,35 @@ def all_told(play):
     web = play.web().told()
     rest = (play.hand(), play.ended(), play.loser(), play.web_left().told(), play.position())
     return (web, play.stands_at(), play.gone(), play.left(), play.moves()) + rest
+
+
+def road_told(road):
+    """All that a road tells, to be compared."""
+    rest = (road.hand(), road.ended(), road.loser(), road.web().told(), road.web_left().told())
+    return (road.stands_at(), road.gone(), road.ties_gone(), road.ties_left(), road.moves()) + rest
+
+
+def went(web, names):
+    """A road that went along these names."""
+    road = Road(web, names[0])
+    for name in names[1:]:
+        road.go(name)
+    return road
+
+
+def ways_to_go(ties, place):
+    """By a plain list of ties left: each way to go on from a place, as (other place, ties left behind it)."""
+    return [(one if other == place else other, [tie for tie in ties if tie != (one, other)])
+            for one, other in ties if place in (one, other)]
+
+
+def roads_by_trying(ties, place, many):
+    """All rows of at most so many moves on a road, by a plain list of the ties that are left."""
+    found = [[]]
+    if many > 0:
+        for name, left in ways_to_go(ties, place):
+            found += [[name] + row for row in roads_by_trying(left, name, many - 1)]
+    return found
 
 
 def mover_wins(play, known):

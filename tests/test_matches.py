@@ -3,12 +3,13 @@
 import unittest
 
 from helper import FOURTEEN, Case, all_plays, all_told, all_webs, full_ties, greatest_by_trying, line_web, mixed_webs
-from helper import other_things, ring_web, things, told_webs
+from helper import other_things, ring_web, road_told, things, told_webs, ways_to_go, went
 from onceroad.errors import NoMove, NoNumbers, NoPlace, NoPlayer, Odd, TooMany
 from onceroad.matches import all_answers, led, match
 from onceroad.pairs import partner_of
 from onceroad.players import Best, By, Farthest, Nearest, Numbered, Partner, Player
 from onceroad.plays import Play, played
+from onceroad.roads import Road
 from onceroad.webs import Web
 from onceroad.wins import of_play, start_paper, winner
 
@@ -133,6 +134,59 @@ class Matches(Case):
         road = Loop()
         self.refuses(NoMove, None, match, road, Nearest(), By(lambda moves: None))
         self.assertEqual(road.gone(), ["a", "b"])
+
+    def plays_out(self, road, one, other):
+        """A match on a road, held against asking by turns, with a plain list of ties."""
+        twin = road.twin()
+        wins = match(road, one, other)
+        while not twin.ended():
+            self.assertEqual(twin.hand(), (len(twin.gone()) - 1) % 2)
+            twin.go((one, other)[twin.hand()].choose(twin))
+        self.assertEqual(road_told(road), road_told(twin))
+        self.assertEqual(ways_to_go(road.ties_left(), road.stands_at()), [])
+        self.assertEqual(wins, len(road.gone()) % 2)
+        self.assertIs(type(wins), int)
+
+    def test_roads_to_their_end(self):
+        middle = By(lambda moves: moves[len(moves) // 2])
+        players = [Nearest(), Farthest(), Numbered([3, -1, 4, 1, -5, 9, 2]), middle]
+        for web in list(all_webs("bdac"))[::7] + mixed_webs(3, 14, 30) + told_webs()[1:9]:
+            for start in web.places()[:3]:
+                for one in players:
+                    for other in players:
+                        self.plays_out(Road(web, start), one, other)
+
+    def test_some_roads(self):
+        bow = Web(list("abcde"), [("a", "b"), ("b", "c"), ("a", "c"), ("a", "d"), ("d", "e"), ("a", "e")])
+        for start, one, other, names in (("a", Nearest(), Nearest(), "abcadea"), ("a", Farthest(), Nearest(), "aedabca"),
+                                         ("b", Nearest(), Farthest(), "baedacb"),
+                                         ("d", Numbered([0, 5, -1]), Numbered([9, 2]), "daed")):
+            road = Road(bow, start)
+            match(road, one, other)
+            self.assertEqual("".join(road.gone()), names)
+
+    def test_roads_from_the_midst_and_ended_ones(self):
+        road = went(ring_web("abcd"), list("ab"))
+        self.assertEqual(match(road, By(lambda moves: moves[0]), Nearest()), 1)
+        self.assertEqual((road.gone(), road.loser()), (list("abcda"), 0))
+        before = road_told(road)
+        self.assertEqual(match(road, By(never), By(never)), 1)
+        self.assertEqual(road_told(road), before)
+        self.assertEqual(match(Road(Web(["a"], []), "a"), By(never), By(never)), 1)
+
+    def test_roads_are_refused_as_plays_are(self):
+        for thing in other_things(Player):
+            road = went(ring_web("abcd"), list("ab"))
+            before = road_told(road)
+            self.refuses(NoPlayer, thing, match, road, thing, None)
+            self.refuses(NoPlayer, thing, match, road, By(never), thing)
+            self.assertEqual(road_told(road), before)
+        for thing in things() + ["a", "q", ["c"]]:
+            road = Road(line_web("abcd"), "a")
+            self.refuses(NoMove, thing, match, road, Nearest(), By(lambda moves: thing))
+            self.assertEqual((road.gone(), road.hand()), (["a", "b"], 1))
+            self.refuses(NoMove, thing, match, road, By(lambda moves: thing), Farthest())
+            self.assertEqual((road.gone(), road.ties_left()), (["a", "b", "c"], [("c", "d")]))
 
     def test_the_players_of_other_matches_are_the_same(self):
         player = Numbered([2, 5, -1])

@@ -3,12 +3,13 @@
 import unittest
 
 from helper import FOURTEEN, Case, all_pairs, all_plays, all_told, all_webs, full_ties, line_web, mixed_webs, ring_web
-from helper import things
+from helper import road_told, things
 from onceroad.errors import NoNumbers, NoPairs
 from onceroad.greatest import greatest
 from onceroad.pairs import partner_of
 from onceroad.players import Best, By, Farthest, Nearest, Numbered, Partner, Player
 from onceroad.plays import Play, played
+from onceroad.roads import Road
 from onceroad.webs import Web
 from onceroad.wins import of_play
 
@@ -172,6 +173,24 @@ class Numbers(Case):
         self.assertEqual(numbers, [0, 0])
         for thing in things():
             self.keeps(Numbered, thing)
+
+
+class OnRoads(Case):
+    def test_where_places_are_come_to_several_times(self):
+        numbers = [4, -7, 0, 10 ** 20, 3, 1, 2, -1]
+        for web in mixed_webs(4, 6, 9) + [ring_web("abc")]:
+            for many in (1, 3, 8):
+                player = Numbered(numbers[:many])
+                road = Road(web, "a")
+                for made in range(10):
+                    moves = [name for name in web.beside(road.stands_at()) if name in road.moves()]
+                    told = [moves[0], moves[-1], moves[numbers[made % many] % len(moves)]] if moves else [None] * 3
+                    before = road_told(road)
+                    self.assertEqual([Nearest().choose(road), Farthest().choose(road), player.choose(road)], told)
+                    self.assertEqual(By(list).choose(road), moves)
+                    self.assertEqual(road_told(road), before)
+                    if moves:
+                        road.go(told[2])
 
 
 class ByFunctions(Case):
