@@ -25,22 +25,29 @@ def must_be_player(thing):
 
 def led(web, start, numbers):
     paper = start_paper(web, start)
-    leader = Partner(web, paper[1])
-    follower = Numbered(numbers)
     play = Play(web, start)
-    if paper[0] == 0:
-        match(play, leader, follower)
-    else:
-        match(play, follower, leader)
+    lead(play, paper[0], Partner(web, paper[1]), Numbered(numbers))
     return play
 
 
+# A match in which the first of the two players moves for this hand.
+def lead(play, hand, leader, follower):
+    if hand == 0:
+        match(play, leader, follower)
+    else:
+        match(play, follower, leader)
+
+
 def all_answers(play, player, hand):
+    return answers_within(play, player, hand, len(play.left()), MOST_PLACES_LEFT)
+
+
+# Of a play or a road, with how many places, or ties, are left of it and how many may be.
+def answers_within(play, player, hand, many, most):
     must_be_player(player)
     if not is_hand(hand):
         raise NoNumbers(hand)
-    many = len(play.left())
-    if many > MOST_PLACES_LEFT:
+    if many > most:
         raise TooMany(many)
     return ways_on(play.twin(), player, hand)
 

@@ -8,6 +8,13 @@ MOST_SUMMED = 40
 HIGHEST_SUMMED = 1073741823
 
 
+def sum_of(numbers):
+    total = 0
+    for number in numbers:
+        total = total ^ number
+    return total
+
+
 def picks(numbers, goal):
     must_be_summed(numbers)
     if not is_summed(goal):

@@ -4,6 +4,8 @@ import unittest
 from itertools import combinations
 
 from onceroad import errors
+from onceroad.desk import Desk
+from onceroad.eveners import Evener, Keen
 from onceroad.forests import Forest
 from onceroad.kept import Kept
 from onceroad.players import Best, By, Nearest, Numbered
@@ -27,7 +29,7 @@ def things():
         "", " ", "A", "Ab", "a ", " a", "a\n", "a1", "a-b", "zzzzzzz", "~", ">", "a > b", "x" * 2000, "\n" * 9,
         len, lambda: None, things, Web([], []), Web(["a", "b"], [("a", "b")]),
         Play(Web(["a"], []), "a"), Forest(Web(["a"], []), []), Kept(Web(["a"], [])), Nearest(), Numbered([1]), By(len),
-        Road(Web(["a", "b"], [("a", "b")]), "a"), {"a": Road(Web(["a"], []), "a")},
+        Road(Web(["a", "b"], [("a", "b")]), "a"), {"a": Road(Web(["a"], []), "a")}, Evener([]), Keen(), Desk(), [Keen()],
         Best(), [Nearest()], (Kept(Web([], [])),), errors.NoBack(), errors.NoPlace("a"), errors.OnceError("a"),
         [], (), {}, [[]], [()], ([],), [{}], ["a", ["b"]], [["a", "b"]], ("a", ["b"]), ["q", "r"], ("q", "r"),
         [("a",)], [("a", "b", "c")], [("q", "r")], [("a", 1)], [(True, "b")], [(["a"], "b")], [({}, {})], [None],
@@ -111,6 +113,52 @@ def roads_by_trying(ties, place, many):
         for name, left in ways_to_go(ties, place):
             found += [[name] + row for row in roads_by_trying(left, name, many - 1)]
     return found
+
+
+def road_mover_wins(ties, place, known):
+    """Whether the hand that is to move wins on a road, by trying all moves along a plain list of ties left."""
+    key = (tuple(ties), place)
+    if key not in known:
+        known[key] = any(not road_mover_wins(left, name, known) for name, left in ways_to_go(ties, place))
+    return known[key]
+
+
+def is_two_sided(web):
+    """Whether a web has two sides, by colours that spread along its ties."""
+    colours = {}
+    for start in web.places():
+        waiting = [] if start in colours else [start]
+        colours.setdefault(start, 0)
+        while waiting:
+            place = waiting.pop()
+            for other in web.beside(place):
+                if other not in colours:
+                    colours[other] = 1 - colours[place]
+                    waiting.append(other)
+    return all(colours[one] != colours[other] for one, other in web.ties())
+
+
+def two_sided_webs(many, places, ties):
+    """So many webs of two sides, of so many places, in mixed order, and at most so many ties."""
+    found = []
+    for turn in range(many):
+        names = FOURTEEN[:places]
+        half = places // 2 - turn % 2
+        across = [(one, other) for one in names[:half] for other in names[half:]]
+        found.append(Web(mixed(names, turn), mixed(across, turn + 500)[:ties]))
+    return found
+
+
+def small_two_sided_webs():
+    """All webs of two sides of four places, and some larger ones, also such of several pieces."""
+    found = [web for web in all_webs("bdac") if is_two_sided(web)]
+    found += two_sided_webs(6, 6, 7) + two_sided_webs(4, 7, 6) + two_sided_webs(3, 8, 9)
+    return found + [Web(["a"], []), line_web("cab"), ring_web("abcdef"), Web(list("abcde"), [("a", "c"), ("b", "e")])]
+
+
+def great_two_sided_webs():
+    """Webs of two sides at the edges of how many places and ties there may be."""
+    return two_sided_webs(4, 14, 30) + two_sided_webs(4, 13, 20) + [line_web(FOURTEEN), ring_web(FOURTEEN)]
 
 
 def mover_wins(play, known):

@@ -1,13 +1,14 @@
 """The package keeps to its small part of Python.
 
-Looked at, some only in part: L1 to L8, L10, L12, L14 to L28. Not looked at, so to be kept by eye: L9, L11, L13, of L15
-what is kept at a file's top, of L19 what stands in a `try`, of L23 that nothing walked is changed.
+Looked at, some only in part: L1 to L8, L10, L12 to L28. Not looked at, so to be kept by eye: L9, L11, of L19 what stands
+in a `try`, and of L23 that nothing walked is changed under another name.
 """
 
 import ast
 import builtins
 import re
 import unittest
+from functools import lru_cache
 from pathlib import Path
 
 PACKAGE = Path(__file__).resolve().parent.parent / "onceroad"
@@ -35,9 +36,13 @@ KEYWORDS = {"sorted": ["key", "reverse"], "min": ["key", "default"], "max": ["ke
             "enumerate": ["start"], "zip": ["strict"]}
 WALKED = ["zip", "enumerate", "reversed", "range", "items", "keys", "values"]
 WALKERS = "list tuple dict sorted sum any all enumerate zip min max join".split()
+CHANGES = "append clear extend insert pop remove reverse setdefault update".split()
+NOT_AS_NAMES = """attrgetter breakpoint builtins compile copyright credits delattr dir eval exec exit gc getattr globals
+    hasattr help id importlib license locals methodcaller os quit setattr super type vars sys __name__""".split()
 UNUSED = ["register", "mro", "elements", "open", "input", "version_info", "with_traceback", "add_note"]
 
 
+@lru_cache
 def trees():
     return {file.stem: ast.parse(file.read_text("utf-8")) for file in FILES}
 
@@ -74,6 +79,27 @@ def with_parents(kinds):
     """All nodes of these kinds with their file and the node straight around each of them."""
     return [(stem, parent, node) for stem, tree in trees().items() for parent in ast.walk(tree)
             for node in ast.iter_child_nodes(parent) if isinstance(node, kinds)]
+
+
+def only_reads(parent, node):
+    """Whether a list or dict is read here by an index, a walk, `in`, or what makes a copy of it."""
+    if isinstance(parent, ast.Subscript):
+        return isinstance(parent.ctx, ast.Load) and parent.value is node
+    if isinstance(parent, ast.Compare):
+        return node in parent.comparators and all(isinstance(op, (ast.In, ast.NotIn)) for op in parent.ops)
+    if isinstance(parent, (ast.For, ast.comprehension)):
+        return parent.iter is node
+    return called(parent) in WALKERS + ["len"] or (isinstance(parent, ast.Attribute) and parent.attr == "get")
+
+
+def walked_by(loop):
+    """The expression whose value a loop walks, without what only walks it likewise."""
+    walked = loop.iter
+    while isinstance(walked, ast.Call) and called(walked) in WALKED + ["list"]:
+        if called(walked) in ("list", "range"):
+            return None
+        walked = walked.func.value if isinstance(walked.func, ast.Attribute) else walked.args[0]
+    return ast.dump(walked)
 
 
 class Files(unittest.TestCase):
@@ -121,6 +147,17 @@ class Tops(unittest.TestCase):
             self.assertTrue(all(isinstance(node, kinds) for node in tree.body[1:]), stem)
             names = top_names(tree) + imports(tree)
             self.assertEqual(len(names), len(set(names)), stem)
+
+    def test_lists_and_dicts_at_the_top_are_only_read(self):
+        for stem, tree in trees().items():
+            tops = [node for node in tree.body if isinstance(node, ast.Assign)]
+            kept = [node.targets[0].id for node in tops if isinstance(node.value, (ast.List, ast.Dict))]
+            for node in tops:
+                within = [one for one in ast.walk(node.value) if isinstance(one, (ast.List, ast.Dict))]
+                self.assertLessEqual(len(within), 1, stem)
+            for where, parent, node in with_parents(ast.Name):
+                if where == stem and node.id in kept and isinstance(node.ctx, ast.Load):
+                    self.assertTrue(only_reads(parent, node), (stem, node.lineno))
 
 
 class Forms(unittest.TestCase):
@@ -173,7 +210,6 @@ class Forms(unittest.TestCase):
         for stem, node in nodes(ast.Try):
             self.assertFalse(node.finalbody, (stem, node.lineno))
 
-
     def test_no_annotations(self):
         for stem, node in nodes(ast.FunctionDef):
             self.assertIsNone(node.returns, (stem, node.name))
@@ -195,6 +231,21 @@ class Forms(unittest.TestCase):
                 walks = isinstance(parent, (ast.For, ast.comprehension)) and parent.iter is node
                 walks = walks or (called(parent) in WALKERS and node in parent.args)
                 self.assertTrue(walks, (stem, node.lineno))
+
+    def test_what_is_walked_is_not_changed(self):
+        for stem, loop in nodes(ast.For):
+            walked = walked_by(loop)
+            for node in [one for part in loop.body for one in ast.walk(part)]:
+                changed = None
+                if isinstance(node, ast.Call) and isinstance(node.func, ast.Attribute) and node.func.attr in CHANGES:
+                    changed = node.func.value
+                elif isinstance(node, ast.Subscript) and isinstance(node.ctx, ast.Store):
+                    changed = node.value
+                self.assertFalse(changed is not None and ast.dump(changed) == walked, (stem, node))
+
+    def test_lambdas_on_one_line(self):
+        lines = [(stem, node.lineno) for stem, node in nodes(ast.Lambda)]
+        self.assertEqual(len(lines), len(set(lines)))
 
     def test_no_sets(self):
         for stem, node in nodes(ast.Name):
@@ -227,6 +278,7 @@ class Names(unittest.TestCase):
 
     def test_names_of_pythons_own(self):
         for stem, node in nodes(ast.Name):
+            self.assertNotIn(node.id, NOT_AS_NAMES, (stem, node.lineno))
             if node.id in dir(builtins):
                 self.assertIn(node.id, OWN_NAMES, (stem, node.lineno))
                 self.assertIsInstance(node.ctx, ast.Load, (stem, node.lineno))
